@@ -1,0 +1,108 @@
+"""The interface: what stands in which file, with which arguments; the form of the files."""
+
+import ast
+import importlib
+import inspect
+import os
+import unittest
+
+FOLDER = os.path.join(os.path.dirname(os.path.abspath(__file__)), "..", "bowkinds")
+
+# What each file defines, with its parameters, as DOC.md lists them.
+FUNCTIONS = {
+    "values": {
+        "is_integer": "thing", "is_place": "thing", "is_bow": "thing", "are_bows": "thing",
+        "is_way": "thing", "are_ways": "thing", "is_direction": "thing", "are_directions": "thing",
+    },
+    "bows": {
+        "direction_of": "one other", "way_of": "one other", "turned_bow": "bow",
+        "moved_bow": "bow by",
+    },
+    "kinds": {"all_kinds": ""},
+}
+CLASSES = {
+    "errors": {
+        "BowError": {}, "Wrong": {"__init__": "place"}, "NoBow": {"__init__": "index"},
+        "NoWay": {"__init__": "word"}, "NotTight": {"__init__": ""}, "Unlike": {"__init__": ""},
+        "BadDigit": {"__init__": "at"}, "NoNumber": {"__init__": "number"},
+        "BadGoing": {"__init__": "at"}, "Nothing": {"__init__": ""}, "BadEdit": {"__init__": ""},
+        "NoText": {"__init__": "line"}, "NoCommand": {"__init__": ""},
+    },
+    "kinds": {
+        "Kind": {
+            "__init__": "ways", "__eq__": "other", "__len__": "", "__iter__": "",
+            "__contains__": "thing", "__invert__": "", "__or__": "other", "__and__": "other",
+            "__sub__": "other", "ways": "", "turned": "", "lets": "one other", "inside_of": "other",
+        },
+    },
+}
+
+
+def parameters(function):
+    return " ".join(inspect.signature(function).parameters)
+
+
+def package_files():
+    return sorted(name for name in os.listdir(FOLDER) if name != "__pycache__")
+
+
+def text_of(name):
+    with open(os.path.join(FOLDER, name), encoding="utf-8") as file:
+        return file.read()
+
+
+class InterfaceTest(unittest.TestCase):
+    def test_functions(self):
+        for file, functions in FUNCTIONS.items():
+            module = importlib.import_module("bowkinds." + file)
+            for name, told in functions.items():
+                function = getattr(module, name)
+                self.assertEqual(function.__module__, module.__name__)
+                self.assertEqual(parameters(function), told, name)
+
+    def test_classes_define_their_methods_themselves(self):
+        for file, classes in CLASSES.items():
+            module = importlib.import_module("bowkinds." + file)
+            for name, methods in classes.items():
+                found = getattr(module, name)
+                self.assertEqual(found.__module__, module.__name__)
+                for method, told in methods.items():
+                    self.assertIn(method, vars(found), name)
+                    self.assertEqual(parameters(vars(found)[method]), ("self " + told).strip(), method)
+
+
+class FilesTest(unittest.TestCase):
+    def test_the_folder_holds_plain_files_alone(self):
+        for name in package_files():
+            self.assertRegex(name, r"\A[a-z_]+\.py\Z")
+
+    def test_sizes_and_signs(self):
+        for name in package_files():
+            text = text_of(name)
+            self.assertTrue(all(sign == "\n" or " " <= sign <= "~" for sign in text), name)
+            lines = text.split("\n")
+            self.assertLess(len(lines), 400, name)
+            self.assertLessEqual(max(len(line) for line in lines), 120, name)
+            for node in ast.walk(ast.parse(text)):
+                if isinstance(node, ast.FunctionDef):
+                    self.assertLessEqual(node.end_lineno - node.lineno, 39, node.name)
+
+    def test_imports_are_of_the_package_by_full_names(self):
+        for name in package_files():
+            for node in ast.walk(ast.parse(text_of(name))):
+                self.assertNotIsInstance(node, ast.Import)
+                if isinstance(node, ast.ImportFrom):
+                    self.assertTrue(node.module.startswith("bowkinds."), name)
+                    self.assertEqual(node.level, 0)
+
+    def test_module_level_holds_no_code(self):
+        allowed = (ast.Expr, ast.ImportFrom, ast.FunctionDef, ast.ClassDef, ast.Assign)
+        for name in package_files():
+            for node in ast.parse(text_of(name)).body:
+                self.assertIsInstance(node, allowed, name)
+                if isinstance(node, ast.Expr):
+                    self.assertIsInstance(node.value, ast.Constant)
+
+
+if __name__ == "__main__":
+    unittest.main()
