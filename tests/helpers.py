@@ -1,7 +1,8 @@
-"""What several test files share: odd values, small bows, reversed oracles."""
+"""What several test files share: odd values, small bows, the tables of the document."""
 
 from bowkinds import errors
 from bowkinds.kinds import Kind
+from bowkinds.rows import Row
 
 WAYS = ["apart", "begun", "chained", "crossing", "ended", "same", "within"]
 DIRECTIONS = [
@@ -31,7 +32,7 @@ def odd_values():
     return [
         None, True, False, "", "x", "Apart", "apart ", "(0, 1)", "line\nfeed",
         b"apart", {}, {"apart": 1}, {0: (0, 1)}, {(0, 1)}, {"apart"}, object(), len, int,
-        errors.Wrong(0), errors.NoBow([1]), errors.Nothing(), Kind([]), Kind(["apart"]),
+        errors.Wrong(0), errors.NoBow([1]), errors.Nothing(), Kind([]), Kind(["apart"]), Row([(5, 6)]),
         [None], [True], [[]], [[[]]], (None,), ((),), ["x"], "x" * 9999, [None] * 9999,
         {number: [number] for number in range(3000)},
         deep([], 29, lambda part: [part]), deep((), 29, lambda part: (part,)),

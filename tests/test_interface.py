@@ -18,7 +18,21 @@ FUNCTIONS = {
         "direction_of": "one other", "way_of": "one other", "turned_bow": "bow",
         "moved_bow": "bow by",
     },
+    "following": {
+        "reverse_of": "direction", "way_along": "direction", "directions_of": "way",
+        "follow": "first second", "follow_all": "directions",
+    },
+    "rows": {"directions_in": "row", "are_alike": "one other"},
     "kinds": {"all_kinds": ""},
+    "layers": {
+        "together": "row kind i j", "not_together": "row kind", "is_layer": "row kind thing",
+        "is_crowd": "row kind thing", "is_layering": "row kind thing", "in_order": "layers",
+    },
+    "orders": {"is_order": "ways thing", "orders_of": "ways"},
+    "tight": {
+        "is_tight": "kind", "tight_kinds": "", "paper_of": "kind", "is_paper": "kind thing",
+        "ring_for": "kind", "is_ring": "kind thing",
+    },
 }
 CLASSES = {
     "errors": {
@@ -27,6 +41,13 @@ CLASSES = {
         "BadDigit": {"__init__": "at"}, "NoNumber": {"__init__": "number"},
         "BadGoing": {"__init__": "at"}, "Nothing": {"__init__": ""}, "BadEdit": {"__init__": ""},
         "NoText": {"__init__": "line"}, "NoCommand": {"__init__": ""},
+    },
+    "rows": {
+        "Row": {
+            "__init__": "bows", "__eq__": "other", "__len__": "", "__iter__": "", "__or__": "other",
+            "__getitem__": "index", "bows": "", "places": "", "put": "bow", "without": "index",
+            "only": "indexes", "turned": "", "moved": "by", "plain": "",
+        },
     },
     "kinds": {
         "Kind": {
