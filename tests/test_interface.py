@@ -8,7 +8,8 @@ import unittest
 
 FOLDER = os.path.join(os.path.dirname(os.path.abspath(__file__)), "..", "bowkinds")
 
-# What each file defines, with its parameters, as DOC.md lists them.
+# What each file defines, with its parameters, as DOC.md lists them; those behind
+# a "*" are passed by keyword, and "=" tells that one may be left out.
 FUNCTIONS = {
     "values": {
         "is_integer": "thing", "is_place": "thing", "is_bow": "thing", "are_bows": "thing",
@@ -32,6 +33,26 @@ FUNCTIONS = {
     "tight": {
         "is_tight": "kind", "tight_kinds": "", "paper_of": "kind", "is_paper": "kind thing",
         "ring_for": "kind", "is_ring": "kind thing",
+    },
+    "chains": {
+        "is_ahead": "row directions i j *same=False", "chains": "row directions *same=False",
+        "unordered": "row directions *same=False",
+    },
+    "levels": {
+        "level_of": "row directions index *same=False", "levels": "row directions *same=False",
+        "long_chain": "row directions *same=False",
+    },
+    "ends": {
+        "end_numbers": "row *same=False", "are_enough": "row thing *same=False", "dealt": "row *same=False",
+        "hued": "row *same=False", "unlike_ends": "row *same=False", "most_at_an_end": "row *same=False",
+    },
+    "fewest": {
+        "fewest_layers": "row kind", "layering_of": "row kind", "held": "row kind", "crowd_of": "row kind",
+        "is_shown": "row kind thing",
+    },
+    "rounds": {
+        "is_round": "row kind thing", "round_of": "row kind", "two_layers": "row kind",
+        "barred_from": "row kind index", "linked": "row kind", "in_two": "row kind i j", "many_in_two": "row kind",
     },
 }
 CLASSES = {
@@ -60,7 +81,12 @@ CLASSES = {
 
 
 def parameters(function):
-    return " ".join(inspect.signature(function).parameters)
+    told = []
+    for name, parameter in inspect.signature(function).parameters.items():
+        sign = "*" if parameter.kind is inspect.Parameter.KEYWORD_ONLY else ""
+        worth = "" if parameter.default is inspect.Parameter.empty else f"={parameter.default!r}"
+        told.append(sign + name + worth)
+    return " ".join(told)
 
 
 def package_files():

@@ -6,22 +6,11 @@ from bowkinds.bows import way_of
 from bowkinds.kinds import Kind, all_kinds
 from bowkinds.layers import in_order, is_crowd, is_layer, is_layering, not_together, together
 from bowkinds.rows import Row
-from helpers import FAR, WAYS, odd_values, small_bows, subsets
+from helpers import FAR, WAYS, odd_values, parts_of, small_bows, subsets
 
 FOUR = Row([(0, 1), (1, 3), (0, 1), (2, 5)])
 SOME = [Kind([]), Kind(["apart"]), ~Kind(["apart"]), Kind(["same"]), ~Kind(["same"]), Kind(["chained", "same"]),
         Kind(["crossing", "within"]), Kind(WAYS)]
-
-
-def parts_of(indexes):
-    """All lists of lists that hold each index once, as the document orders them."""
-    if not indexes:
-        return [[]]
-    found = []
-    for parts in parts_of(indexes[:-1]):
-        found += [parts[:at] + [parts[at] + [indexes[-1]]] + parts[at + 1:] for at in range(len(parts))]
-        found.append(parts + [[indexes[-1]]])
-    return found
 
 
 class TogetherTest(unittest.TestCase):

@@ -9,7 +9,7 @@ from bowkinds.layers import is_crowd, is_layer
 from bowkinds.orders import orders_of
 from bowkinds.rows import Row
 from bowkinds.tight import is_paper, is_ring, is_tight, paper_of, ring_for, tight_kinds
-from helpers import FAR, WAYS, odd_values, small_bows, subsets
+from helpers import FAR, WAYS, fewest, greatest, odd_values, small_bows, subsets
 
 DOC_RING = [(0, 1), (1, 3), (3, 4), (2, 3), (1, 2)]
 
@@ -25,22 +25,6 @@ def has_ring(kind):
                     if (beside[c] & beside[e]) - beside[a] - beside[b]:
                         return True
     return False
-
-
-def fewest(row, are_one):
-    """The least number of sets that are one (a layer, a crowd) and hold each bow once."""
-    masks = 1 << len(row)
-    lists = [[index for index in range(len(row)) if mask >> index & 1] for mask in range(masks)]
-    one = [are_one(some) for some in lists]
-    least = [0] * masks
-    for mask in range(1, masks):
-        least[mask] = min(1 + least[mask ^ part] for part in range(1, mask + 1)
-                          if part & mask == part and one[part])
-    return least[-1]
-
-
-def greatest(row, are_one):
-    return max(len(some) for some in subsets(range(len(row))) if are_one(some))
 
 
 class TightTest(unittest.TestCase):
