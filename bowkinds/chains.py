@@ -28,16 +28,17 @@ def unordered(row, directions, *, same=False):
     # From the last bows of the chains on: what cannot be reached as a bow
     # before others, and what is reached as one behind, holds one bow of each
     # link. The bows that are neither are as many as the chains.
-    reached = [index for index in range(len(row)) if index not in before]
+    reached = [last for last in range(len(row)) if last not in before]
     held = []
     at = 0
     while at < len(reached):
-        for j in behind[reached[at]]:
+        index = reached[at]
+        for j in behind[index]:
             if j not in held:
                 held.append(j)
                 reached.append(before[j])
         at += 1
-    return [index for index in sorted(reached) if index not in held]
+    return [free for free in sorted(reached) if free not in held]
 
 
 def _bows_behind(row, directions, same):

@@ -15,19 +15,19 @@ def not_together(row, kind):
 
 def is_layer(row, kind, thing):
     """Return whether thing is a layer of a row."""
-    return _are_indexes(row, thing) and _are_together(row, kind, thing)
+    return are_indexes(row, thing) and _are_together(row, kind, thing)
 
 
 def is_crowd(row, kind, thing):
     """Return whether thing is a crowd of a row."""
-    return _are_indexes(row, thing) and not any([together(row, kind, i, j) for i, j in _pairs(thing)])
+    return are_indexes(row, thing) and not any([together(row, kind, i, j) for i, j in _pairs(thing)])
 
 
 def is_layering(row, kind, thing):
     """Return whether thing is a layering of a row."""
-    if not isinstance(thing, list) or not all([_are_indexes(row, layer) for layer in thing]):
+    if not isinstance(thing, list) or not all([are_indexes(row, layer) for layer in thing]):
         return False
-    if not _hold_each_once(row, thing) or in_order(thing) != thing:
+    if not hold_each_once(row, thing) or in_order(thing) != thing:
         return False
     return all([_are_together(row, kind, layer) for layer in thing])
 
@@ -37,7 +37,8 @@ def in_order(layers):
     return sorted([sorted(layer) for layer in layers if len(layer) > 0])
 
 
-def _are_indexes(row, thing):
+def are_indexes(row, thing):
+    """Return whether thing is an ascending list of different indexes of a row."""
     if not isinstance(thing, list) or not all([is_index(part, len(row)) for part in thing]):
         return False
     return is_ascending(thing)
@@ -47,7 +48,8 @@ def _are_together(row, kind, indexes):
     return all([together(row, kind, i, j) for i, j in _pairs(indexes)])
 
 
-def _hold_each_once(row, layers):
+def hold_each_once(row, layers):
+    """Return whether each index of a row stands just once in all these lists."""
     return sorted([index for layer in layers for index in layer]) == list(range(len(row)))
 
 

@@ -91,9 +91,10 @@ def _trails(barred, start):
     queue = [start]
     at = 0
     while at < len(queue):
-        for j in barred[queue[at]]:
+        index = queue[at]
+        for j in barred[index]:
             if j not in trails:
-                trails[j] = trails[queue[at]] + [j]
+                trails[j] = trails[index] + [j]
                 queue.append(j)
         at += 1
     return trails

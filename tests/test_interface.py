@@ -54,6 +54,21 @@ FUNCTIONS = {
         "is_round": "row kind thing", "round_of": "row kind", "two_layers": "row kind",
         "barred_from": "row kind index", "linked": "row kind", "in_two": "row kind i j", "many_in_two": "row kind",
     },
+    "trees": {
+        "fewest_by_trying": "row kind", "leaves": "tree", "layering_by_trying": "row kind",
+        "layerings": "row kind many", "tree_for": "row kind many", "is_tree": "row kind many thing",
+    },
+    "greatest": {
+        "greatest_layer": "row kind", "greatest_layers": "row kind", "full_layers": "row kind",
+        "is_greatest": "row kind layer crowds",
+    },
+    "leaving": {
+        "left_out": "row kind many", "left_values": "row kind", "weighty_bows": "row kind",
+        "fewest_left": "row kind many", "is_left": "row kind many left layers",
+    },
+    "mixed": {
+        "mixed_values": "row one other", "mixed_layering": "row one other many", "is_mixed": "row one other thing",
+    },
 }
 CLASSES = {
     "errors": {

@@ -123,6 +123,15 @@ class RoundTest(unittest.TestCase):
             self.assertIs(is_round(row, kind, told[1:] + [told[1]]), False)
             self.assertIs(is_round(row, kind, told[:-2]), False)
 
+    def test_bows_that_hang_on_a_round_are_none_of_it(self):
+        ring = [(30 * at, 30 * at + 40) for at in range(6)] + [(10, 180)]
+        tail = [(-20, 5), (-50, -15), (-80, -45)]
+        kind = ~Kind(["crossing"])
+        for bows in (ring + tail, tail + ring, ring + tail[::-1], tail[::-1] + ring[::-1], tail[:2] + ring + tail[2:]):
+            row = Row(bows)
+            self.assertEqual(self.check(row, kind), 7)
+            self.assertEqual(sorted(row.only(round_of(row, kind))), sorted(ring))
+
     def test_rings(self):
         for kind in all_kinds():
             if not is_tight(kind):
