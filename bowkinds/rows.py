@@ -23,7 +23,7 @@ class Row:
         return iter(self._bows)
 
     def __or__(self, other):
-        return _row_of(self._bows + other._bows)
+        return row_of(self._bows + other._bows)
 
     def __getitem__(self, index):
         if not is_index(index, len(self._bows)):
@@ -42,35 +42,36 @@ class Row:
         """Return the Row with a bow more at its end."""
         if not is_bow(bow):
             raise Wrong(0)
-        return _row_of(self._bows + (bow,))
+        return row_of(self._bows + (bow,))
 
     def without(self, index):
         """Return the Row without one bow."""
         if not is_index(index, len(self._bows)):
             raise NoBow(index)
-        return _row_of(self._bows[:index] + self._bows[index + 1:])
+        return row_of(self._bows[:index] + self._bows[index + 1:])
 
     def only(self, indexes):
         """Return the Row of the bows with these indexes, in their order."""
-        return _row_of([self[index] for index in indexes])
+        return row_of([self[index] for index in indexes])
 
     def turned(self):
         """Return the Row of the bows seen from behind."""
-        return _row_of([turned_bow(bow) for bow in self._bows])
+        return row_of([turned_bow(bow) for bow in self._bows])
 
     def moved(self, by):
         """Return the Row of the bows moved by an integer."""
-        return _row_of([moved_bow(bow, by) for bow in self._bows])
+        return row_of([moved_bow(bow, by) for bow in self._bows])
 
     def plain(self):
         """Return the Row in which the places are 0, 1, .. in their order."""
         ranks = {place: rank for rank, place in enumerate(self.places())}
-        return _row_of([(ranks[begin], ranks[end]) for begin, end in self._bows])
+        return row_of([(ranks[begin], ranks[end]) for begin, end in self._bows])
 
 
-def _row_of(bows):
-    # These bows come of others that were looked at before; to look at them
-    # again would be an error where a caller moves them out of their bounds.
+def row_of(bows):
+    """Return the Row of bows that come of those of other Rows."""
+    # Those were looked at before; to look at them again would be an error
+    # where a caller moves them out of their bounds.
     made = Row([])
     made._bows = tuple(bows)
     return made

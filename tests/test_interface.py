@@ -69,6 +69,28 @@ FUNCTIONS = {
     "mixed": {
         "mixed_values": "row one other", "mixed_layering": "row one other many", "is_mixed": "row one other thing",
     },
+    "compared": {
+        "never_more": "one other", "is_showing": "one other thing", "alike_for": "row one other",
+        "showing": "one other", "way_counts": "row", "ways_in": "row", "unlike_pairs": "row other",
+        "telling_ways": "row other", "is_told": "kind row other",
+    },
+    "changes": {
+        "exchanged": "row place", "changed_pairs": "row place", "is_dealing": "row kind thing many",
+        "least_moves": "row kind dealing many", "put_in": "row kind dealing bow many", "taken_out": "dealing index",
+    },
+    "strips": {
+        "strip": "piece step many", "enough_copies": "piece step", "strip_values": "piece step kind",
+        "strip_fewest": "piece step kind many", "strip_crowd": "piece step kind",
+    },
+    "words": {
+        "is_word": "thing", "depths": "word", "digits_of": "row", "rows_over": "word", "number_of": "row",
+        "crossings": "row", "nestings": "row", "row_by": "word digits", "word_of": "row", "row_at": "word number",
+        "words_of": "many",
+    },
+    "machines": {
+        "goings_of": "row", "off_a_pile": "word", "off_a_line": "word", "row_from": "word goings",
+        "serve": "row machines", "is_served": "row machines thing",
+    },
 }
 CLASSES = {
     "errors": {
