@@ -91,6 +91,17 @@ FUNCTIONS = {
         "goings_of": "row", "off_a_pile": "word", "off_a_line": "word", "row_from": "word goings",
         "serve": "row machines", "is_served": "row machines thing",
     },
+    "turning": {
+        "cut_at": "row places at", "cuts": "row places", "stays": "kind", "showing_cut": "kind",
+        "is_showing_cut": "kind thing",
+    },
+    "notation": {
+        "show_bow": "bow", "show_bows": "bows", "show_row": "row", "show_kind": "kind", "show_layer": "layer",
+        "show_layering": "layers", "show_paper": "thing", "show_picture": "row",
+    },
+    "readers": {
+        "read_bow": "text", "read_row": "text", "read_kind": "text", "read_layering": "text", "read_paper": "text",
+    },
 }
 CLASSES = {
     "errors": {
@@ -114,7 +125,18 @@ CLASSES = {
             "__sub__": "other", "ways": "", "turned": "", "lets": "one other", "inside_of": "other",
         },
     },
+    "book": {
+        "Book": {
+            "__init__": "row kind", "__eq__": "other", "__len__": "", "__iter__": "", "do": "edit", "back": "",
+            "again": "", "log": "", "copied": "",
+        },
+    },
+    "desk": {"Desk": {"__init__": "row kind", "execute": "line", "book": ""}},
 }
+PROPERTIES = {("book", "Book"): ["row", "kind"]}
+# The files in the order in which they are written.
+FILES = """errors values bows following rows kinds layers orders tight chains levels ends fewest rounds trees greatest
+leaving mixed compared changes strips words machines turning notation readers book desk""".split()
 
 
 def parameters(function):
@@ -153,6 +175,24 @@ class InterfaceTest(unittest.TestCase):
                 for method, told in methods.items():
                     self.assertIn(method, vars(found), name)
                     self.assertEqual(parameters(vars(found)[method]), ("self " + told).strip(), method)
+
+
+    def test_properties(self):
+        for (file, name), properties in PROPERTIES.items():
+            found = getattr(importlib.import_module("bowkinds." + file), name)
+            for told in properties:
+                self.assertIsInstance(vars(found)[told], property)
+
+    def test_all_files_are_there(self):
+        self.assertEqual({*FUNCTIONS, *CLASSES}, {*FILES})
+        for file in FILES:
+            self.assertIn(file + ".py", package_files())
+
+    def test_errors_are_direct_subclasses(self):
+        errors = importlib.import_module("bowkinds.errors")
+        for name in CLASSES["errors"]:
+            base = ValueError if name == "BowError" else errors.BowError
+            self.assertEqual(getattr(errors, name).__bases__, (base,))
 
 
 class FilesTest(unittest.TestCase):
