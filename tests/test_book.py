@@ -18,7 +18,8 @@ EDITS = [
 NO_EDITS = [
     (), ("put",), ("put", (1, 0)), ("put", [0, 1]), ("put", (0, 1), (0, 1)), ("put", 0), ("put", (0, True)),
     ("put", (0, FAR + 1)), ("out",), ("out", True), ("out", "0"), ("out", None), ("out", 0, 0), ("out", (0, 1)),
-    ("bow", 0), ("bow", (0, 1), 0), ("bow", False, (0, 1)), ("bow", 0, (0, 1), 0), ("bow", 0, (1, 1)), ("bow", 9, (2, 1)),
+    ("bow", 0), ("bow", (0, 1), 0), ("bow", False, (0, 1)), ("bow", 0, (0, 1), 0), ("bow", 0, (1, 1)), ("bow", 9, (2,
+                                                                                                                   1)),
     ("bow", 0, [0, 1]), ("row",), ("row", (0, 1)), ("row", [(0, 1), (1, 0)]), ("row", ROW), ("row", None),
     ("row", {(0, 1): 0}), ("row", [], []), ("row", ((0, 1), [2, 3])), ("let",), ("let", "Apart"), ("let", "before"),
     ("let", ["apart"]), ("let", KIND), ("let", "apart", "begun"), ("bar",), ("bar", ""), ("bar", 1), ("bar", "after"),

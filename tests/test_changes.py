@@ -113,7 +113,8 @@ class DealingTest(unittest.TestCase):
         self.assertIs(is_dealing(row, FREE, [0, 1, 1], 2), True)
         wrong = [
             [0, 1], [0, 1, 1, 1], [0, 0, 0], [0, 1, 2], [0, -1, 1], [0, None, 1], [0, True, 1], [False, 1, 1],
-            (0, 1, 1), [0, [1], 1], "011", {0: 0, 1: 1, 2: 1}, [], [[0, 1, 1]], [0, 1] * 4000, ["0", "1", "1"], *odd_values(),
+            (0, 1, 1), [0, [1], 1], "011", {0: 0, 1: 1, 2: 1}, [], [[0, 1, 1]], [0, 1] * 4000, ["0", "1", "1"],
+            *odd_values(),
         ]
         for thing in wrong:
             self.assertIs(is_dealing(row, FREE, thing, 2), False, repr(thing)[:60])

@@ -19,7 +19,8 @@ from helpers import FAR, WAYS, edge_rows, forty_rows, odd_values, short_rows, sm
 
 TOLD, FREE, CHAIN = Row([(0, 20), (10, 30), (20, 40)]), Kind(["apart"]), Kind(["chained"])
 RING = Row([(0, 1), (1, 3), (3, 4), (2, 3), (1, 2)])
-ALONE = ["turn", "back", "again", "row", "kind", "plain", "picture", "tight", "paper", "fewest", "layers", "crowd", "two"]
+ALONE = ["turn", "back", "again", "row", "kind", "plain", "picture", "tight", "paper", "fewest", "layers", "crowd",
+         "two"]
 RIGHT = [*ALONE, "put 5:6", "out 0", "bow 0 5:6", "let same", "bar apart", "way 0 1", "direction 0 1", "together 0 0"]
 
 
@@ -42,7 +43,8 @@ class MakingTest(DeskCase):
             for kind in (Kind([]), FREE, Kind(WAYS)):
                 desk = Desk(row, kind)
                 self.assertEqual(desk.book(), Book(row, kind))
-                self.assertEqual(self.tells(Desk(kind=kind, row=row), ["row", "kind"]), [show_row(row), show_kind(kind)])
+                told = self.tells(Desk(kind=kind, row=row), ["row", "kind"])
+                self.assertEqual(told, [show_row(row), show_kind(kind)])
 
     def test_wrong_arguments(self):
         for thing in odd_values() + [[(0, 1)], ((0, 1),), ["apart"], Book(TOLD, FREE), Desk(TOLD, FREE)]:
@@ -58,7 +60,8 @@ class MakingTest(DeskCase):
 class EditsTest(DeskCase):
     def test_by_hand(self):
         desk = Desk(TOLD, FREE)
-        lines = ["put 5:15", "put -7:-3", "out 0", "bow 1 0:9", "let within", "bar apart", "let within", "bar same", "turn"]
+        lines = ["put 5:15", "put -7:-3", "out 0", "bow 1 0:9", "let within", "bar apart", "let within", "bar same",
+                 "turn"]
         self.assertEqual(self.tells(desk, lines), ["4", "5", "4", "4", "4", "4", "4", "4", "4"])
         self.assertEqual(self.tells(desk, ["row", "kind"]), ["-30:-10 -9:0 -15:-5 3:7", "within"])
         self.assertEqual(self.tells(desk, ["back"] * 9), lines[::-1])
@@ -70,8 +73,9 @@ class EditsTest(DeskCase):
 
     def test_they_are_the_edits_of_a_book(self):
         edits = {
-            "put -5:6": ("put", (-5, 6)), "out 1": ("out", 1), "bow 2 0:1": ("bow", 2, (0, 1)), "let ended": ("let", "ended"),
-            "bar apart": ("bar", "apart"), "turn": ("turn",), f"put {-FAR}:{FAR}": ("put", (-FAR, FAR)),
+            "put -5:6": ("put", (-5, 6)), "out 1": ("out", 1), "bow 2 0:1": ("bow", 2, (0, 1)),
+            "let ended": ("let", "ended"), "bar apart": ("bar", "apart"), "turn": ("turn",),
+            f"put {-FAR}:{FAR}": ("put", (-FAR, FAR)),
         }
         for line, edit in edits.items():
             desk, book = Desk(TOLD, FREE), Book(TOLD, FREE)
@@ -84,7 +88,8 @@ class EditsTest(DeskCase):
 
     def test_the_last_bow_goes(self):
         desk = Desk(Row([(0, 1)]), FREE)
-        self.assertEqual(self.tells(desk, ["out 0", "row", "picture", "plain", "fewest", "layers", "crowd", "two", "turn"]),
+        self.assertEqual(self.tells(desk, ["out 0", "row", "picture", "plain", "fewest", "layers", "crowd", "two",
+                                           "turn"]),
                          ["0", "-", "", "-", "0", "-", "-", "-", "0"])
         self.assertEqual(self.fails(NoBow, desk.execute, "out 0").index, 0)
 
@@ -181,7 +186,8 @@ class QuestionsTest(DeskCase):
 
     def test_answers_are_those_now(self):
         desk = Desk(TOLD, FREE)
-        self.assertEqual(self.tells(desk, ["tight", "bar apart", "let chained", "tight", "two", "put 0:10", "put 0:40"]),
+        self.assertEqual(self.tells(desk, ["tight", "bar apart", "let chained", "tight", "two", "put 0:10",
+                                           "put 0:40"]),
                          ["yes", "3", "3", "no", "0,2;1", "4", "5"])
         self.fails(NotTight, desk.execute, "fewest")
         self.assertEqual(self.tells(desk, ["let begun", "bar chained", "paper"]), ["5", "5", "chains started"])
@@ -225,7 +231,8 @@ class NoCommandTest(DeskCase):
 
     def test_wrong_numbers(self):
         desk = self.desk()
-        for number in ("", "-1", "-0", "+1", "00", "01", "1.0", "x", "0x1", "1_0", "True", "-", "1" * 41, "0" * 40, "0:1"):
+        for number in ("", "-1", "-0", "+1", "00", "01", "1.0", "x", "0x1", "1_0", "True", "-", "1" * 41, "0" * 40,
+                       "0:1"):
             for line in (f"out {number}", f"bow {number} 0:1", f"way {number} 0", f"way 0 {number}", f"way 9 {number}",
                          f"direction {number} 0", f"direction 0 {number}", f"together {number} {number}"):
                 self.stays(desk, line)
@@ -275,7 +282,8 @@ class BookTest(DeskCase):
                 way = chance.choice(WAYS)
                 lines = {
                     f"put {bow[0]}:{bow[1]}": ("put", bow), f"out {index}": ("out", index), f"let {way}": ("let", way),
-                    f"bow {index} {bow[0]}:{bow[1]}": ("bow", index, bow), f"bar {way}": ("bar", way), "turn": ("turn",),
+                    f"bow {index} {bow[0]}:{bow[1]}": ("bow", index, bow), f"bar {way}": ("bar", way),
+                    "turn": ("turn",),
                     "back": None, "again": None,
                 }
                 line = chance.choice(sorted(lines))
@@ -292,7 +300,8 @@ class BookTest(DeskCase):
                     if right is not None:
                         self.assertEqual(told, right)
                 self.assertEqual(desk.book(), book)
-                self.assertEqual([read_row(desk.execute("row")), read_kind(desk.execute("kind"))], [book.row, book.kind])
+                told = [read_row(desk.execute("row")), read_kind(desk.execute("kind"))]
+                self.assertEqual(told, [book.row, book.kind])
 
     def test_examples_of_the_document(self):
         desk = Desk(TOLD, FREE)

@@ -129,7 +129,8 @@ class MixedTest(unittest.TestCase):
             for one, other in ((FREE, CHAIN), (CHAIN, ~CHAIN), (Kind([]), Kind(WAYS))):
                 check_new(self, lambda: mixed_values(row, one, other), lambda: mixed_layering(row, one, other, 0),
                           lambda: mixed_layering(row, one, other, 1), lambda: mixed_layering(row, one, other, 10 ** 20),
-                          lambda: mixed_values(row, other, one), lambda: mixed_values(Row(bows), Kind(one.ways()), other))
+                          lambda: mixed_values(row, other, one), lambda: mixed_values(Row(bows), Kind(one.ways()),
+                                                                                      other))
             self.assertEqual(row.bows(), bows)
 
     def test_examples_of_the_document(self):

@@ -172,7 +172,8 @@ class LayeringsTest(ReadingCase):
         for number in (10 ** 39, 10 ** 40 - 1, FAR, FAR + 1, 0):
             self.assertEqual(read_layering(str(number)), [[number]])
             self.assertEqual(read_layering(f"3,{number};{number}"), [[3, number], [number]])
-        for text in ("1" * 41, "0,1" + "0" * 40, "0;" + "9" * 41, "9" * 5000, "0" * 40, "-1", "0,-1", "+1", "01", "1,00",
+        for text in ("1" * 41, "0,1" + "0" * 40, "0;" + "9" * 41, "9" * 5000, "0" * 40, "-1", "0,-1", "+1", "01",
+                     "1,00",
                      "-0", "-;0", "0;-", "0,-", "1_0", "1.0", "0x1"):
             self.fails(read_layering, text, 1)
 

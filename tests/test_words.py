@@ -52,7 +52,8 @@ class IsWordTest(unittest.TestCase):
 
     def test_wrong_values(self):
         wrong = [")(", "())(", "(", ")", " ", "(x", "(]", "( ", "()(1", "(()\n", "()\n", "\n()",
-                 "( )", "[]", "(x)", "((1))", ["()"], ("()",), ["(", ")"], b"()", 0, 1, -1, {"()": True}, {"()"}, *odd_values()]
+                 "( )", "[]", "(x)", "((1))", ["()"], ("()",), ["(", ")"], b"()", 0, 1, -1, {"()": True}, {"()"},
+                 *odd_values()]
         for thing in wrong:
             self.assertIs(is_word(thing), isinstance(thing, str) and thing == "", repr(thing)[:50])
 
