@@ -73,11 +73,11 @@ def row_by(word, digits):
 
 def word_of(row):
     """Return the word over which a row stands, or None."""
+    signs = 2 * len(row)
     begins = [begin for begin, _ in row]
-    word = _signs_of(row)
-    if row.places() != list(range(2 * len(row))) or begins != sorted(begins) or len(word) > LONGEST:
+    if signs > LONGEST or row.places() != list(range(signs)) or begins != sorted(begins):
         return None
-    return word
+    return _signs_of(row)
 
 
 def row_at(word, number):
